@@ -1,0 +1,41 @@
+package types
+
+import "recompile/api"
+
+// variable returns the number of a variable; -1 for any other type.
+func variable(t api.Type) int {
+	if len(t.Args) > 0 || len(t.Name) < 2 || t.Name[0] != '?' {
+		return -1
+	}
+	digits := t.Name[1:]
+	if digits[0] == '0' && len(digits) > 1 {
+		return -1
+	}
+	number := 0
+	for i := range len(digits) {
+		if digits[i] < '0' || digits[i] > '9' {
+			return -1
+		}
+		number = number*10 + int(digits[i]-'0')
+		if number > api.MaxVariable {
+			return -1
+		}
+	}
+	return number
+}
+
+// isNone reports whether a type is the zero type: a variable that gets it has none.
+func isNone(t api.Type) bool { return t.Name == "" && len(t.Args) == 0 }
+
+// eachVariable calls a function with the number of each variable in a type, until it returns false, and reports whether it never did.
+func eachVariable(t api.Type, goOn func(number int) bool) bool {
+	if n := variable(t); n >= 0 {
+		return goOn(n)
+	}
+	for _, k := range t.Args {
+		if !eachVariable(k, goOn) {
+			return false
+		}
+	}
+	return true
+}
