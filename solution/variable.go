@@ -1,6 +1,9 @@
-package types
+package solution
 
 import "recompile/api"
+
+// IsVariable reports whether a type is a variable, whether or not it has a type.
+func IsVariable(t api.Type) bool { return variable(t) >= 0 }
 
 // variable returns the number of a variable; -1 for any other type.
 func variable(t api.Type) int {
