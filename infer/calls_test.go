@@ -76,7 +76,7 @@ func TestNumbersOfArguments(t *testing.T) {
 		{"new p::R", "bad p::R", "8@4 p::R"}, {"new p::R(int 1)", "bad p::R(int 1)", "8@4 p::R"}, {"new p::R(int 1, bool true, bool true)", "bad p::R(int 1, bool true, bool true)", "8@4 p::R"}, {"new p::N(int 1)", "bad p::N(int 1)", "8@4 p::N"}, {"new p::N", "new p::N", ""},
 		{"call p::id", "bad p::id", "8@4 p::id"}, {"call p::id(int 1, int 2)", "bad p::id(int 1, int 2)", "8@4 p::id"}, {"call p::put(int 1)", "bad p::put(int 1)", "8@4 p::put"}, {"call p::any(int 1)", "bad p::any(int 1)", "8@4 p::any"}, {"call p::m(int 1)", "bad p::m(int 1)", "8@4 p::m"},
 		// nothing is said of the Kids, but they are visited, and the type is error
-		{"call p::f(unit)", "bad p::f(unit)", "8@4 p::f"}, {"call p::f(unary -(unit))", "bad p::f(unary -(unit))", "9@6, 8@4 p::f"}, {"call p::f(call p::g(unit))", "bad p::f(bad p::g(unit))", "8@5 p::g, 8@4 p::f"}, {"call p::f(call p::any)", "bad p::f(bad p::any)", "8@4 p::f, 11@5 p::any"},
+		{"call p::f(unit)", "bad p::f(unit)", "8@4 p::f"}, {"call p::f(unary -(unit))", "bad p::f(unary -(unit))", "9@6, 8@4 p::f"}, {"call p::f(call p::g(unit))", "bad p::f(bad p::g(unit))", "8@5 p::g, 8@4 p::f"}, {"call p::f(call p::any)", "bad p::f(call p::any<error>)", "8@4 p::f, 11@5 p::any"},
 		{"call p::f(call p::id(int 1))", "bad p::f(call p::id<int>(int 1))", "8@4 p::f"}, {"unary !(call p::f)", "unary !(bad p::f)", "8@5 p::f"}, {"unary -(call p::f)", "unary -(bad p::f)", "8@5 p::f"}, {"dot a(new p::R)", "bad a(bad p::R)", "8@5 p::R"},
 		{"call p::z(call p::unknown(global p::f))", "bad p::z(bad p::unknown(global p::f))", "7@6 p::f, 7@5 p::unknown, 7@4 p::z"},
 	} {
@@ -124,11 +124,11 @@ func TestParams(t *testing.T) {
 func TestOtherParams(t *testing.T) {
 	l := known("p::twice fn T:p::A T:p::B U | $T = $U; p::empty fn _:p::A | $ = $; p::unused fn T U:p::A | int = int; p::args fn T | $T<int> $U = int; p::not fn T | T ?T = T")
 	for _, c := range []struct{ result, value, want, diags, goals string }{
-		{"bool", "call p::twice(int 1)", "bad p::twice(int 1)", "11@2 p::twice", "p::A int@2, p::B error@2"},
+		{"bool", "call p::twice(int 1)", "call p::twice<int,error,bool>(int 1)", "11@2 p::twice", "p::A int@2, p::B error@2"},
 		{"int", "call p::empty(int 1)", "call p::empty<int>(int 1)", "", "p::A int@2"},
-		{"int", "call p::unused(int 1)", "bad p::unused(int 1)", "11@2 p::unused", "p::A error@2"},
+		{"int", "call p::unused(int 1)", "call p::unused<error,error>(int 1)", "11@2 p::unused", "p::A error@2"},
 		// a parameter with Args, and one that is none of the Params, stay
-		{"int", "call p::args(bad, bad)", "bad p::args(bad, bad)", "11@2 p::args", ""}, {"int", "call p::args(int 1, bool true)", "bad p::args(int 1, bool true)", "9@3, 9@4, 11@2 p::args", ""}, {"int", "call p::not(unit, bad)", "bad p::not(unit, bad)", "9@3, 9@2, 11@2 p::not", ""},
+		{"int", "call p::args(bad, bad)", "call p::args<error>(bad, bad)", "11@2 p::args", ""}, {"int", "call p::args(int 1, bool true)", "call p::args<error>(int 1, bool true)", "9@3, 9@4, 11@2 p::args", ""}, {"int", "call p::not(unit, bad)", "call p::not<error>(unit, bad)", "9@3, 9@2, 11@2 p::not", ""},
 	} {
 		checkBody(t, constant(c.result, c.value), l, c.want, c.diags, c.goals)
 	}
@@ -152,7 +152,7 @@ func TestOtherNames(t *testing.T) {
 		want, diags string
 	}{
 		{api.Tree{Kind: api.KCall, Text: "a<b", Kids: []api.Tree{of("int 1")}}, "call a<b<int>(int 1)", "9@0"}, {of("call ?2"), "call ?2", ""}, {of("call error(bad)"), "call error<error>(bad)", ""}, {of("call error(int 1)"), "call error<int>(int 1)", ""},
-		{of("call error(global zero)"), "call error<int>(global zero)", ""}, {of("call z(global zero)"), "bad z(global zero)", "11@0 z"}, {of("call z(global x)"), "call z<?x>(global x)", ""}, {of("call error(global x)"), "call error<?x>(global x)", "9@0"},
+		{of("call error(global zero)"), "call error<int>(global zero)", ""}, {of("call z(global zero)"), "call z<error>(global zero)", "11@0 z"}, {of("call z(global x)"), "call z<?x>(global x)", ""}, {of("call error(global x)"), "call error<?x>(global x)", "9@0"},
 	} {
 		in := api.Tree{Kind: api.KConst, Text: "k", Kids: []api.Tree{of("type int"), c.value}}
 		checkBody(t, in, l, c.want, c.diags, "")

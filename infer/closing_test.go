@@ -10,21 +10,21 @@ import (
 	"recompile/infer"
 )
 
-// Variables without a type at the end.
+// Variables without a type at the end are the type error in the Texts of calls and new records, besides the diagnostics of these.
 func TestOpenTypes(t *testing.T) {
 	for _, c := range []struct{ value, want, diags, goals string }{
-		{"call p::any", "bad p::any", "11@4 p::any", ""}, {"new p::E", "bad p::E", "11@4 p::E", ""}, {"call p::id(call p::any)", "bad p::id(bad p::any)", "11@4 p::id, 11@5 p::any", ""}, {"call p::id(new p::E)", "bad p::id(bad p::E)", "11@4 p::id, 11@5 p::E", ""},
-		{"block(let x@0(call p::any), let y@1(local x@0), unit)", "block(let x@0(bad p::any), let y@1(local x@0), unit)", "11@6 p::any", ""},
+		{"call p::any", "call p::any<error>", "11@4 p::any", ""}, {"new p::E", "new p::E<error>", "11@4 p::E", ""}, {"call p::id(call p::any)", "call p::id<error>(call p::any<error>)", "11@4 p::id, 11@5 p::any", ""}, {"call p::id(new p::E)", "call p::id<p::E<error>>(new p::E<error>)", "11@4 p::id, 11@5 p::E", ""},
+		{"block(let x@0(call p::any), let y@1(local x@0), unit)", "block(let x@0(call p::any<error>), let y@1(local x@0), unit)", "11@6 p::any", ""},
 		// one of several
-		{"call p::put(int 1, call p::any)", "bad p::put(int 1, bad p::any)", "11@4 p::put, 11@6 p::any", "p::S int@4"}, {"call p::put(call p::any, global p::l)", "bad p::put(bad p::any, global p::l)", "11@4 p::put, 11@5 p::any", "p::S error@4"},
-		{"new p::P(int 1, call p::any, call p::any)", "bad p::P(int 1, bad p::any, call p::any<p::L<int>>)", "11@4 p::P, 11@6 p::any", "p::Q error@4"}, {"new p::P(new p::E, bool true, call p::any)", "bad p::P(bad p::E, bool true, bad p::any)", "11@4 p::P, 11@5 p::E, 11@7 p::any", "p::Q bool@4"},
+		{"call p::put(int 1, call p::any)", "call p::put<int,error>(int 1, call p::any<p::L<error>>)", "11@4 p::put, 11@6 p::any", "p::S int@4"}, {"call p::put(call p::any, global p::l)", "call p::put<error,int>(call p::any<error>, global p::l)", "11@4 p::put, 11@5 p::any", "p::S error@4"},
+		{"new p::P(int 1, call p::any, call p::any)", "new p::P<int,error>(int 1, call p::any<error>, call p::any<p::L<int>>)", "11@4 p::P, 11@6 p::any", "p::Q error@4"}, {"new p::P(new p::E, bool true, call p::any)", "new p::P<p::E<error>,bool>(new p::E<error>, bool true, call p::any<p::L<p::E<error>>>)", "11@4 p::P, 11@5 p::E, 11@7 p::any", "p::Q bool@4"},
 		// deep in a type
-		{"new p::P(int 1, new p::L(new p::E, call p::any), call p::any)", "bad p::P(int 1, bad p::L(bad p::E, bad p::any), call p::any<p::L<int>>)", "11@4 p::P, 11@6 p::L, 11@7 p::E, 11@8 p::any", "p::Q p::L<p::E<error>>@4"},
+		{"new p::P(int 1, new p::L(new p::E, call p::any), call p::any)", "new p::P<int,p::L<p::E<error>>>(int 1, new p::L<p::E<error>>(new p::E<error>, call p::any<p::L<p::E<error>>>), call p::any<p::L<int>>)", "11@4 p::P, 11@6 p::L, 11@7 p::E, 11@8 p::any", "p::Q p::L<p::E<error>>@4"},
 		// the type error gives no type to what it meets
-		{"call p::head(bad)", "bad p::head(bad)", "11@4 p::head", ""}, {"call p::id(call p::head(bad))", "bad p::id(bad p::head(bad))", "11@4 p::id, 11@5 p::head", ""}, {"call p::id(bad)", "call p::id<error>(bad)", "", ""},
-		{"block(let x@0(new p::E), call p::same(local x@0, bad))", "block(let x@0(bad p::E), bad p::same(local x@0, bad))", "11@6 p::E, 11@7 p::same", ""},
+		{"call p::head(bad)", "call p::head<error>(bad)", "11@4 p::head", ""}, {"call p::id(call p::head(bad))", "call p::id<error>(call p::head<error>(bad))", "11@4 p::id, 11@5 p::head", ""}, {"call p::id(bad)", "call p::id<error>(bad)", "", ""},
+		{"block(let x@0(new p::E), call p::same(local x@0, bad))", "block(let x@0(new p::E<error>), call p::same<p::E<error>>(local x@0, bad))", "11@6 p::E, 11@7 p::same", ""},
 		// what is known in the end is known everywhere
-		{"block(let x@0(call p::any), print(local x@0), unit)", "block(let x@0(call p::any<int>), print(local x@0), unit)", "", ""}, {"block(let x@0(new p::E), let y@1(local x@0), call p::same(local y@1, new p::E))", "block(let x@0(bad p::E), let y@1(local x@0), bad p::same(local y@1, bad p::E))", "11@6 p::E, 11@9 p::same, 11@11 p::E", ""},
+		{"block(let x@0(call p::any), print(local x@0), unit)", "block(let x@0(call p::any<int>), print(local x@0), unit)", "", ""}, {"block(let x@0(new p::E), let y@1(local x@0), call p::same(local y@1, new p::E))", "block(let x@0(new p::E<error>), let y@1(local x@0), call p::same<p::E<error>>(local y@1, new p::E<error>))", "11@6 p::E, 11@9 p::same, 11@11 p::E", ""},
 	} {
 		checkIn(t, c.value, c.want, c.diags, c.goals)
 	}
@@ -120,31 +120,35 @@ func wide(n int) []api.Known {
 	return known("p::w const = p::W" + args)
 }
 
+// alone returns the text of a type of n nodes, as it stands by itself.
+func alone(text string, n int) string {
+	if n > api.MaxWide {
+		return "error"
+	}
+	return text
+}
+
 func TestMaxWide(t *testing.T) {
 	for n := api.MaxWide - 4; n <= api.MaxWide+3; n++ {
 		l := append(definitions(), wide(n)...)
 		text := showType(l[len(l)-1].Sig.Result)
-		// the nodes of the Def, and those of the type of its parameter
-		want, diags := "call p::id<"+text+">(global p::w)", ""
+		// the nodes of the Def, and those of the type of its parameter, which by itself is error if it has more
+		want, diags := "call p::id<"+alone(text, n)+">(global p::w)", ""
 		if n+1 > api.MaxWide {
-			want, diags = "bad p::id(global p::w)", "11@4 p::id"
+			diags = "11@4 p::id"
 		}
 		checkBody(t, constant("unit", "block(do(call p::id(global p::w)), unit)"), l, "block(do("+want+"), unit)", diags, "")
 		// of several parameters
-		want, diags = "call p::put<int,"+text+">(int 1, call p::any<p::L<"+text+">>)", ""
-		switch {
-		case n+2 > api.MaxWide:
-			want, diags = "bad p::put(int 1, bad p::any)", "11@4 p::put, 11@6 p::any"
+		want, diags = "call p::put<int,"+alone(text, n)+">(int 1, call p::any<"+alone("p::L<"+text+">", n+1)+">)", ""
+		if n+2 > api.MaxWide {
+			diags = "11@4 p::put, 11@6 p::any"
 		}
 		checkBody(t, constant("p::P<"+text+",int>", "call p::put(int 1, call p::any)"), l, want, strings.ReplaceAll(strings.ReplaceAll(diags, "@4", "@"+strconv.Itoa(n+3)), "@6", "@"+strconv.Itoa(n+5)), "p::S int@"+strconv.Itoa(n+3))
 		// the goal has a type of its own
-		goal := "p::S " + text + "@4"
-		if n > api.MaxWide {
-			goal = "p::S error@4"
-		}
-		want, diags = "call p::m<"+text+">(global p::w, int 1)", ""
+		goal := "p::S " + alone(text, n) + "@4"
+		want, diags = "call p::m<"+alone(text, n)+">(global p::w, int 1)", ""
 		if n+1 > api.MaxWide {
-			want, diags = "bad p::m(global p::w, int 1)", "11@4 p::m"
+			diags = "11@4 p::m"
 		}
 		checkBody(t, constant("unit", "block(do(call p::m(global p::w, int 1)), unit)"), l, "block(do("+want+"), unit)", diags, goal)
 	}
@@ -176,15 +180,13 @@ func TestTypesThatDouble(t *testing.T) {
 		value, want, wide := "let x0@0(int 1)", "let x0@0(int 1)", ""
 		size, text := 1, "int"
 		for i := range n {
-			before, kids := "x"+strconv.Itoa(i), "local x"+strconv.Itoa(i)+"@0, local x"+strconv.Itoa(i)+"@0, bad"
-			name := strings.Replace(before, strconv.Itoa(i), strconv.Itoa(i+1), 1)
-			value += ", let " + name + "@0(new p::P(" + kids + "))"
+			before := "local x" + strconv.Itoa(i) + "@0"
+			name, kids := ", let x"+strconv.Itoa(i+1)+"@0(", "("+before+", "+before+", bad))"
+			value += name + "new p::P" + kids
+			text = "p::P<" + alone(text, size) + "," + alone(text, size) + ">"
+			want += name + "new " + text + kids
 			size = min(2*size+1, 1000)
-			if size <= api.MaxWide {
-				text = "p::P<" + text + "," + text + ">"
-				want += ", let " + name + "@0(new " + text + "(" + kids + "))"
-			} else {
-				want += ", let " + name + "@0(bad p::P(" + kids + "))"
+			if size > api.MaxWide {
 				wide += ", 11@" + strconv.Itoa(6+5*i) + " p::P"
 			}
 		}

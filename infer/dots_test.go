@@ -25,7 +25,7 @@ func TestDots(t *testing.T) {
 		// the first Kid counts
 		{"int", "dot a(global p::r, int 1)", "dot 0(global p::r, int 1)", ""}, {"int", "dot a(int 1, global p::r)", "bad a(int 1, global p::r)", "10@2 a"}, {"int", "dot a(global p::r, unary -(unit))", "dot 0(global p::r, unary -(unit))", "9@5"}, {"int", "dot a(bad, dot b(global p::r))", "bad a(bad, dot 1(global p::r))", ""},
 		// a variable
-		{"int", "dot a(call p::any)", "bad a(bad p::any)", "11@2 a, 11@3 p::any"}, {"bool", "dot a(call p::any)", "bad a(bad p::any)", "11@2 a, 11@3 p::any"}, {"int", "unary -(dot a(call p::any))", "unary -(bad a(bad p::any))", "11@3 a, 11@4 p::any"}, {"int", "dot a(call p::head(call p::any))", "bad a(bad p::head(bad p::any))", "11@2 a, 11@3 p::head, 11@4 p::any"},
+		{"int", "dot a(call p::any)", "bad a(call p::any<error>)", "11@2 a, 11@3 p::any"}, {"bool", "dot a(call p::any)", "bad a(call p::any<error>)", "11@2 a, 11@3 p::any"}, {"int", "unary -(dot a(call p::any))", "unary -(bad a(call p::any<error>))", "11@3 a, 11@4 p::any"}, {"int", "dot a(call p::head(call p::any))", "bad a(call p::head<error>(call p::any<p::L<error>>))", "11@2 a, 11@3 p::head, 11@4 p::any"},
 	} {
 		checkValue(t, c.result, c.value, c.want, c.diags)
 	}
@@ -36,12 +36,12 @@ func TestDotsBeforeAndAfterTheTypeIsKnown(t *testing.T) {
 	for _, c := range []struct{ value, want, diags string }{
 		{"block(let x@0(call p::any), dot a(local x@0), let y@1(call p::two(local x@0, global p::r)), dot a(local x@0), unit)", "block(let x@0(call p::any<p::R>), bad a(local x@0), let y@1(call p::two(local x@0, global p::r)), dot 0(local x@0), unit)", "11@5 a"},
 		{"block(let x@0(call p::any), dot a(local x@0), do(unary -(local x@0)), dot a(local x@0), unit)", "block(let x@0(call p::any<int>), bad a(local x@0), do(unary -(local x@0)), bad a(local x@0), unit)", "11@5 a, 10@10 a"},
-		{"block(let x@0(new p::L(call p::any, call p::any)), dot a(dot head(local x@0)), unit)", "block(let x@0(bad p::L(bad p::any, bad p::any)), bad a(dot 0(local x@0)), unit)", "11@7 a, 11@4 p::L, 11@5 p::any, 11@6 p::any"},
+		{"block(let x@0(new p::L(call p::any, call p::any)), dot a(dot head(local x@0)), unit)", "block(let x@0(new p::L<error>(call p::any<error>, call p::any<p::L<error>>)), bad a(dot 0(local x@0)), unit)", "11@7 a, 11@4 p::L, 11@5 p::any, 11@6 p::any"},
 		{"block(let x@0(new p::L(call p::any, call p::any)), dot a(dot head(local x@0)), let y@1(call p::two(dot head(local x@0), bad)), dot a(dot head(dot tail(local x@0))), unit)", "block(let x@0(new p::L<p::R>(call p::any<p::R>, call p::any<p::L<p::R>>)), bad a(dot 0(local x@0)), let y@1(call p::two(dot 0(local x@0), bad)), dot 0(dot 0(dot 1(local x@0))), unit)", "11@7 a"},
 		// the KDot itself gives its Kid no type
-		{"block(let x@0(call p::any), dot head(local x@0), dot head(local x@0), unit)", "block(let x@0(bad p::any), bad head(local x@0), bad head(local x@0), unit)", "11@5 head, 11@7 head, 11@4 p::any"},
+		{"block(let x@0(call p::any), dot head(local x@0), dot head(local x@0), unit)", "block(let x@0(call p::any<error>), bad head(local x@0), bad head(local x@0), unit)", "11@5 head, 11@7 head, 11@4 p::any"},
 		// a field gives types, too
-		{"block(let x@0(new p::E), let y@1(new p::L(local x@0, call p::any)), assign x@0(dot head(local y@1)), let z@2(call p::same(local x@0, bad)), unit)", "block(let x@0(bad p::E), let y@1(bad p::L(local x@0, bad p::any)), assign x@0(dot 0(local y@1)), let z@2(bad p::same(local x@0, bad)), unit)", "11@4 p::E, 11@6 p::L, 11@8 p::any, 11@13 p::same"},
+		{"block(let x@0(new p::E), let y@1(new p::L(local x@0, call p::any)), assign x@0(dot head(local y@1)), let z@2(call p::same(local x@0, bad)), unit)", "block(let x@0(new p::E<error>), let y@1(new p::L<p::E<error>>(local x@0, call p::any<p::L<p::E<error>>>)), assign x@0(dot 0(local y@1)), let z@2(call p::same<p::E<error>>(local x@0, bad)), unit)", "11@4 p::E, 11@6 p::L, 11@8 p::any, 11@13 p::same"},
 		{"block(let x@0(new p::L(call p::any, call p::any)), print(dot head(dot tail(local x@0))), unit)", "block(let x@0(new p::L<int>(call p::any<int>, call p::any<p::L<int>>)), print(dot 0(dot 1(local x@0))), unit)", ""},
 	} {
 		checkValue(t, "unit", c.value, c.want, c.diags)

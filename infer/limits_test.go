@@ -69,8 +69,8 @@ func TestDeepTypes(t *testing.T) {
 	l := append(definitions(), known("p::wrap fn T:p::S | $T = p::L<$T>; p::none fn T | p::L<$T> p::L<$T> = int")...)
 	in := shape.Number(api.Tree{Kind: api.KConst, Kids: []api.Tree{of("type error"), tower(n, api.KCall, "p::wrap", of("int 1"))}})
 	got := infer.Body(in, l)
-	if len(got.Diags) != n-api.MaxWide+1 || len(got.Goals) != n || got.Diags[0].Node != 2 || showType(got.Goals[0].Type) != "int" || showType(got.Goals[1].Type) != "p::L<int>" || showType(got.Goals[n-1].Type) != "error" {
-		t.Errorf("%d diagnostics, %d goals", len(got.Diags), len(got.Goals))
+	if len(got.Diags) != n-api.MaxWide+1 || len(got.Goals) != n || got.Diags[0].Node != 2 || showType(got.Goals[0].Type) != "int" || showType(got.Goals[1].Type) != "p::L<int>" || showType(got.Goals[n-1].Type) != "error" || got.Tree.Kids[1].Kind != api.KCall || got.Tree.Kids[1].Text != "p::wrap<error>" {
+		t.Errorf("%d diagnostics, %d goals, %s", len(got.Diags), len(got.Goals), got.Tree.Kids[1].Text)
 	}
 	// two of them agree, or not
 	for last, diags := range map[string]int{"int 1": 0, "bool true": 1} {
@@ -160,7 +160,8 @@ func TestWideTrees(t *testing.T) {
 		l[2].Sig.Params = append(l[2].Sig.Params, api.Param{Name: strconv.Itoa(i), Bound: "p::S"})
 	}
 	in.Kids[1] = api.Tree{Kind: api.KCall, Text: "p::big", At: 2}
-	if got := infer.Body(in, l); showDiags(got.Diags) != "11@2 p::big" || len(got.Goals) != n || len(got.At) != n || got.Goals[n-1].Type.Name != "error" {
+	text := "p::big<error" + strings.Repeat(",error", n-1) + ">"
+	if got := infer.Body(in, l); showDiags(got.Diags) != "11@2 p::big" || len(got.Goals) != n || len(got.At) != n || got.Goals[n-1].Type.Name != "error" || got.Tree.Kids[1].Text != text {
 		t.Errorf("%d goals, with %s", len(got.Goals), showDiags(got.Diags))
 	}
 }

@@ -38,13 +38,40 @@ func TestProgram(t *testing.T) {
 		"swap":                         {"block(new p::Pair<$B,$A>(dot 1(local p@0), dot 0(local p@0)))", "", "p::Show $p::Less@15"},
 		"most":                         {"block(if(call p::less<$T>(local a@0, local b@1), block(local b@1), block(print(call p::show<$T>(local a@0)), local a@0)))", "", "p::Less $p::Less@12, p::Show $p::Less@19"},
 		"twice":                        {"block(let q@1(call p::swap<int,p::Nil>(call p::swap<p::Nil,int>(local p@0))), let n@2(call p::least<int>), print(local n@2), binary +(dot 1(local q@1), local n@2))", "", "p::Show p::Nil@11, p::Less int@11, p::Show int@10, p::Less p::Nil@10, p::Less int@14"},
-		"open":                         {"block(let x@0(bad p::least), let y@1(bad p::show(local x@0)), do(bad a(bad p::id(local x@0))), unit)", "11@11 a, 11@6 p::least, 11@8 p::show, 11@12 p::id", "p::Less error@6, p::Show error@8"},
+		"open":                         {"block(let x@0(call p::least<error>), let y@1(call p::show<error>(local x@0)), do(bad a(call p::id<error>(local x@0))), unit)", "11@11 a, 11@6 p::least, 11@8 p::show, 11@12 p::id", "p::Less error@6, p::Show error@8"},
 		"bad":                          {"block(let y@1(bad unknown(local x@0)), do(bad z(local y@1)), do(binary +(call p::most<error>(local y@1, local x@0), local y@1)), do(bad p::most(local x@0)), binary &&(bad x, global p::one))", "8@20 p::most, 7@24 p::one", "p::Less error@15"},
 	} {
 		got := p.body(name)
 		last := got.Tree.Kids[len(got.Tree.Kids)-1]
 		if show(last) != c.body || showDiags(got.Diags) != c.diags || showGoals(got) != c.goals {
 			t.Errorf("%s: %s, with %s, goals %s\nwanted: %s, with %s, goals %s", name, show(last), showDiags(got.Diags), showGoals(got), c.body, c.diags, c.goals)
+		}
+		compare(t, p.trees[name], p.known)
+	}
+}
+
+// Calls and new records whose types cannot be found out, or are too many, stay what they are; only a KDot becomes a KBad.
+func TestProgramWithOpenTypes(t *testing.T) {
+	text := "fn any<T>() -> T { any() } fn none<T>() -> P<T> { none() } type P<T> {} type E<T> {} type Pair<T, U> { x: T, y: U }"
+	text += " fn f() -> int { none(); 1 } fn g() -> int { any().a } fn h() -> int { new E(); let x = new Pair(1, any()); x.x } fn k() -> int { let a0 = 1;"
+	one, lets := "int", "let a0@0(int 1)"
+	for i := range 7 {
+		before, name := "a"+strconv.Itoa(i), "a"+strconv.Itoa(i+1)
+		text += " let " + name + " = new Pair(" + before + ", " + before + ");"
+		before += "@" + strconv.Itoa(i)
+		lets += ", let " + name + "@" + strconv.Itoa(i+1) + "(new p::Pair<" + one + "," + one + ">(local " + before + ", local " + before + "))"
+		one = "p::Pair<" + one + "," + one + ">"
+	}
+	p := compile(t, text+" 1 }")
+	for name, want := range map[string]struct{ body, diags string }{
+		"f": {"block(do(call p::none<error>), int 1)", "11@6 p::none"},
+		"g": {"block(bad a(call p::any<error>))", "11@5 a, 11@6 p::any"},
+		"h": {"block(do(new p::E<error>), let x@0(new p::Pair<int,error>(int 1, call p::any<error>)), dot 0(local x@0))", "11@6 p::E, 11@8 p::Pair, 11@10 p::any"},
+		"k": {"block(" + lets + ", int 1)", "11@32 p::Pair"},
+	} {
+		got := p.body(name)
+		if show(got.Tree.Kids[3]) != want.body || showDiags(got.Diags) != want.diags {
+			t.Errorf("%s: %s, with %s\nwanted: %s, with %s", name, show(got.Tree.Kids[3]), showDiags(got.Diags), want.body, want.diags)
 		}
 		compare(t, p.trees[name], p.known)
 	}

@@ -310,14 +310,15 @@ func (r *reading) close(own api.Signature) {
 		if !ok || len(params) == 0 {
 			continue
 		}
-		made := ty(p.tree.Text, params...)
 		open := slices.ContainsFunc(params, func(x api.Type) bool { return !equal(types.Apply(s, x), types.Apply(closed, x)) })
-		if open || types.Nodes(s, made) > api.MaxWide {
+		if open || types.Nodes(s, ty(p.tree.Text, params...)) > api.MaxWide {
 			r.out.Diags = append(r.out.Diags, api.Diag{Code: api.CodeOpen, Node: p.tree.At, Text: p.tree.Text})
-			p.tree.Kind = api.KBad
-		} else {
-			p.tree.Text = types.Print(types.Apply(s, made))
 		}
+		var are []api.Type
+		for _, x := range params {
+			are = append(are, types.Apply(closed, x))
+		}
+		p.tree.Text = types.Print(ty(p.tree.Text, are...))
 	}
 	bounds := map[string]api.Type{}
 	for _, p := range own.Params {

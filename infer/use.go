@@ -89,7 +89,7 @@ func (b *body) dot(n node) api.Type {
 	return types.Put(record.Args[field], names(record.Params), t.Args)
 }
 
-// closeUses gives each KCall and KNew the types of its parameters, or a diagnostic.
+// closeUses gives each KCall and KNew the types of its parameters; those that are open or too many are a diagnostic, too.
 func (b *body) closeUses() {
 	slices.SortFunc(b.uses, func(x, y use) int { return cmp.Compare(x.number, y.number) })
 	for _, u := range b.uses {
@@ -98,17 +98,17 @@ func (b *body) closeUses() {
 }
 
 func (b *body) close(u use) {
-	t := api.Type{Name: u.tree.Text, Args: u.params}
-	if solution.Nodes(b.types.Outer, t) > api.MaxWide {
-		b.bad(u.tree, api.CodeOpen)
-		return
+	made := api.Type{Name: u.tree.Text}
+	open := solution.Nodes(b.types.Outer, api.Type{Name: u.tree.Text, Args: u.params}) > api.MaxWide
+	for _, p := range u.params {
+		t := solution.Apply(b.types.Outer, p)
+		open = open || isOpen(t)
+		made.Args = append(made.Args, settled(t))
 	}
-	t = solution.Apply(b.types.Outer, t)
-	if slices.ContainsFunc(t.Args, isOpen) {
-		b.bad(u.tree, api.CodeOpen)
-		return
+	if open {
+		b.fail(u.tree, api.CodeOpen)
 	}
-	u.tree.Text = types.Print(t)
+	u.tree.Text = types.Print(made)
 }
 
 // isOpen reports whether there is a variable in a type.
