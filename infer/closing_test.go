@@ -154,23 +154,19 @@ func TestMaxWide(t *testing.T) {
 	}
 }
 
-// A type of more than MaxWide nodes has no fields: it is the type error. Types without parameters, and equations, may be as large as they are.
+// A type has its fields, and equations hold, however many nodes it has.
 func TestFieldsOfWideTypes(t *testing.T) {
 	for n := api.MaxWide - 2; n <= api.MaxWide+2; n++ {
-		l := append(wide(n), known("p::W record A | a:$A b:bool = p::W<$A>; p::f fn | p::W = bool; p::g fn T | $T $T = int")...)
-		l[2].Sig.Args[0] = l[0].Sig.Result
-		want := "dot 1(global p::w)"
-		if n > api.MaxWide {
-			want = "bad b(global p::w)"
-		}
-		checkBody(t, constant("bool", "dot b(global p::w)"), l, want, "", "")
+		l := append(wide(n), known("p::W record A | a:$A b:bool = p::W<$A>; p::f fn | p::W = bool")...)
+		l[2].Sig.Args[0] = wide(n)[0].Sig.Result
+		checkBody(t, constant("bool", "dot b(global p::w)"), l, "dot 1(global p::w)", "", "")
+		checkBody(t, constant("int", "dot a(global p::w)"), l, "dot 0(global p::w)", "", "")
+		checkBody(t, constant("int", "dot c(global p::w)"), l, "bad c(global p::w)", "10@2 c", "")
+		checkBody(t, constant("int", "dot b(call p::f(global p::w))"), l, "bad b(call p::f(global p::w))", "10@2 b", "")
 		checkBody(t, constant("bool", "call p::f(global p::w)"), l, "call p::f(global p::w)", "", "")
 		l[2].Sig.Args[0].Args[n-2].Name = "bool"
-		diags := ""
-		if n <= api.MaxWide {
-			diags = "9@2"
-		}
-		checkBody(t, constant("unit", "dot b(global p::w)"), append(l[:2:2], l[3]), want, diags, "")
+		checkBody(t, constant("unit", "dot b(global p::w)"), l, "dot 1(global p::w)", "9@2", "")
+		checkBody(t, constant("bool", "call p::f(global p::w)"), l, "call p::f(global p::w)", "9@3", "")
 	}
 }
 

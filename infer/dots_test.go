@@ -63,7 +63,7 @@ func TestDotsOfArguments(t *testing.T) {
 }
 
 func TestOtherRecords(t *testing.T) {
-	l := known("p::A record T | a:int a:bool b:$T a:unit = p::A<$T>; p::A record T | z:int = p::A<$T>; p::B record T T | a:$T = p::B<$T,$T>; p::C record | = p::C; p::F fn | a:int = p::F; p::D record | a:int = p::D; int record | a:bool = int; $T record | a:bool = $T; p::V record T | a:?x b:p::A<?2> = p::V<$T>")
+	l := known("p::A record T | a:int a:bool b:$T a:unit = p::A<$T>; p::A record T | z:int = p::A<$T>; p::B record T T | a:$T = p::B<$T,$T>; p::C record | = p::C; p::F fn | a:int = p::F; p::D record | a:int = p::D; int record | a:bool = int; $T record | a:bool = $T; p::V record T | a:?x b:p::A<?2> = p::V<$T>; p::G record T U | a:$T<$T> b:p::A<$U<int>,T,$> = p::G<$T,$U>")
 	// the names of a signature that is no record do not count
 	for i := range l {
 		if l[i].Def == "p::F" {
@@ -81,6 +81,8 @@ func TestOtherRecords(t *testing.T) {
 		{"x@0:p::C", "int", "dot a(local x@0)", "bad a(local x@0)", "10@8 a"}, {"x@0:p::F", "int", "dot a(local x@0)", "bad a(local x@0)", "10@8 a"},
 		// a field without a type has the type error
 		{"x@0:p::D", "int", "dot a(local x@0)", "dot 0(local x@0)", ""}, {"x@0:p::D", "bool", "dot c(local x@0)", "dot 2(local x@0)", ""}, {"x@0:p::D", "int", "dot d(local x@0)", "bad d(local x@0)", "10@8 d"},
+		// a parameter with Args, and what is none, stay
+		{"x@0:p::G<int,bool>", "$T<int>", "dot a(local x@0)", "dot 0(local x@0)", ""}, {"x@0:p::G<int,bool>", "int", "dot a(local x@0)", "dot 0(local x@0)", "9@10"}, {"x@0:p::G<int,bool>", "p::A<$U<int>,T,$>", "dot b(local x@0)", "dot 1(local x@0)", ""},
 		// any Name can be that of a record
 		{"x@0:int", "bool", "dot a(local x@0)", "dot 0(local x@0)", ""}, {"x@0:$T", "bool", "dot a(local x@0)", "dot 0(local x@0)", ""}, {"x@0:bool", "bool", "dot a(local x@0)", "bad a(local x@0)", "10@8 a"},
 		{"x@0:p::V<int>", "bool", "dot a(local x@0)", "dot 0(local x@0)", "9@9"}, {"x@0:?x", "bool", "dot a(local x@0)", "bad a(local x@0)", "10@8 a"}, {"x@0:?01", "bool", "dot a(local x@0)", "bad a(local x@0)", "10@8 a"}, {"x@0:?77", "bool", "dot a(local x@0)", "bad a(local x@0)", "11@8 a"}, {"x@0:?1000000", "bool", "dot a(local x@0)", "bad a(local x@0)", "11@8 a"}, {"x@0:?1000001", "bool", "dot a(local x@0)", "bad a(local x@0)", "10@8 a"},

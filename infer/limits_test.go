@@ -23,7 +23,11 @@ func tower(n int, kind int, text string, in api.Tree) api.Tree {
 
 // bodyOf returns what Body makes of a constant of a type with a value whose places are the numbers of the nodes.
 func bodyOf(result string, value api.Tree) api.Inferred {
-	return infer.Body(shape.Number(api.Tree{Kind: api.KConst, Kids: []api.Tree{{Kind: api.KTypeOf, Text: result}, value}}), definitions())
+	return bodyWith(result, value, definitions())
+}
+
+func bodyWith(result string, value api.Tree, l []api.Known) api.Inferred {
+	return infer.Body(shape.Number(api.Tree{Kind: api.KConst, Kids: []api.Tree{{Kind: api.KTypeOf, Text: result}, value}}), l)
 }
 
 // bottom returns the number of levels of a tree, the Text of its second level, and the last node.
@@ -117,6 +121,43 @@ func TestManyDots(t *testing.T) {
 		}
 		if bad && len(got.Diags) != n/2 || !bad && len(got.Diags) > 0 {
 			t.Errorf("%s: %d diagnostics", c.value, len(got.Diags))
+		}
+	}
+}
+
+// Fields whose types have more nodes, and more levels, than those of their records; they agree with others, or would be in themselves.
+func TestManyFieldsThatDouble(t *testing.T) {
+	t.Parallel()
+	l := known("p::D record T | next:p::D<p::P<$T,$T>> val:$T = p::D<$T>; p::P record T U | a:$T b:$U = p::P<$T,$U>; p::d const = p::D<int>; p::b const = p::D<bool>; p::same fn T | $T $T = $T; p::any fn T = $T; p::like fn T | $T = p::D<$T>")
+	n := 20000
+	got := bodyWith("error", tower(n, api.KDot, "next", of("global p::d")), l)
+	if levels, text, _ := bottom(got.Tree.Kids[1]); levels != n+1 || text != "0" || len(got.Diags) > 0 {
+		t.Errorf("%d levels of %s, with %s", levels, text, showDiags(got.Diags))
+	}
+	n = 1500
+	for _, c := range []struct {
+		d, e string
+		code int
+	}{{"global p::d", "global p::d", 0}, {"global p::d", "global p::b", api.CodeType}, {"call p::like(call p::any)", "call p::any", api.CodeType}} {
+		block := api.Tree{Kind: api.KBlock, Kids: []api.Tree{of("let e0@0(" + c.e + ")"), of("let d0@0(" + c.d + ")")}}
+		if c.e == "call p::any" {
+			block.Kids[1] = of("let d0@0(call p::like(local e0@0))")
+		}
+		for i := range n {
+			before, name := strconv.Itoa(i)+"@0", strconv.Itoa(i+1)+"@0"
+			e := "dot next(local e" + before + ")"
+			if c.e == "call p::any" {
+				e = "local e" + before
+			}
+			block.Kids = append(block.Kids, of("let d"+name+"(dot next(local d"+before+"))"), of("let e"+name+"("+e+")"), of("call p::same(local e"+name+", local d"+name+")"))
+		}
+		got := bodyWith("error", block, l)
+		count := map[int]int{}
+		for _, x := range got.Diags {
+			count[x.Code]++
+		}
+		if c.code > 0 && count[c.code] != n || c.code == 0 && count[api.CodeType] > 0 || count[api.CodeField] > 0 || dots(got.Tree)["bad"] > 0 {
+			t.Errorf("%s and %s: %v, %v", c.d, c.e, count, dots(got.Tree))
 		}
 	}
 }

@@ -50,24 +50,26 @@ func TestProgram(t *testing.T) {
 	}
 }
 
-// Calls and new records whose types cannot be found out, or are too many, stay what they are; only a KDot becomes a KBad.
+// Calls and new records whose types cannot be found out, or are too many, stay what they are, and so do the fields of these records; only a KDot of a variable becomes a KBad.
 func TestProgramWithOpenTypes(t *testing.T) {
 	text := "fn any<T>() -> T { any() } fn none<T>() -> P<T> { none() } type P<T> {} type E<T> {} type Pair<T, U> { x: T, y: U }"
-	text += " fn f() -> int { none(); 1 } fn g() -> int { any().a } fn h() -> int { new E(); let x = new Pair(1, any()); x.x } fn k() -> int { let a0 = 1;"
-	one, lets := "int", "let a0@0(int 1)"
+	text += " fn f() -> int { none(); 1 } fn g() -> int { any().a } fn h() -> int { new E(); let x = new Pair(1, any()); x.x }"
+	one, pairs, lets := "int", "let a0 = 1;", "let a0@0(int 1)"
 	for i := range 7 {
 		before, name := "a"+strconv.Itoa(i), "a"+strconv.Itoa(i+1)
-		text += " let " + name + " = new Pair(" + before + ", " + before + ");"
+		pairs += " let " + name + " = new Pair(" + before + ", " + before + ");"
 		before += "@" + strconv.Itoa(i)
 		lets += ", let " + name + "@" + strconv.Itoa(i+1) + "(new p::Pair<" + one + "," + one + ">(local " + before + ", local " + before + "))"
 		one = "p::Pair<" + one + "," + one + ">"
 	}
-	p := compile(t, text+" 1 }")
+	p := compile(t, text+" fn k() -> int { "+pairs+" 1 } fn l() -> int { "+pairs+" a7.x; 1 } fn m() -> bool { "+pairs+" a7.y.x.y.y.x.x.y }")
 	for name, want := range map[string]struct{ body, diags string }{
 		"f": {"block(do(call p::none<error>), int 1)", "11@6 p::none"},
 		"g": {"block(bad a(call p::any<error>))", "11@5 a, 11@6 p::any"},
 		"h": {"block(do(new p::E<error>), let x@0(new p::Pair<int,error>(int 1, call p::any<error>)), dot 0(local x@0))", "11@6 p::E, 11@8 p::Pair, 11@10 p::any"},
 		"k": {"block(" + lets + ", int 1)", "11@32 p::Pair"},
+		"l": {"block(" + lets + ", do(dot 0(local a7@7)), int 1)", "11@32 p::Pair"},
+		"m": {"block(" + lets + ", dot 1(dot 0(dot 0(dot 1(dot 1(dot 0(dot 1(local a7@7))))))))", "9@4, 11@32 p::Pair"},
 	} {
 		got := p.body(name)
 		if show(got.Tree.Kids[3]) != want.body || showDiags(got.Diags) != want.diags {

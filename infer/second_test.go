@@ -262,7 +262,7 @@ func replaced(t api.Type, with map[string]api.Type) api.Type {
 func (r *reading) dot(n int) {
 	s, _ := types.Solve(r.kept)
 	x, _ := r.kid(n, 0)
-	x = types.Apply(s, x)
+	x = whole(s, x)
 	t := r.parts[n].tree
 	of := r.signature(x.Name)
 	field := slices.Index(of.Names, t.Text)
@@ -286,6 +286,21 @@ func (r *reading) dot(n int) {
 	}
 	t.Text = strconv.Itoa(field)
 	r.sayKids(n, replaced(append(slices.Clone(of.Args), slices.Repeat([]api.Type{ty("error")}, field+1)...)[field], with))
+}
+
+// whole applies a solution as chapter 9 defines it, however many nodes come of it.
+func whole(s []api.Type, t api.Type) api.Type {
+	if isVariable(t) {
+		n, _ := strconv.Atoi(t.Name[1:])
+		if n < len(s) && !equal(s[n], api.Type{}) {
+			return whole(s, s[n])
+		}
+	}
+	out := ty(t.Name)
+	for _, k := range t.Args {
+		out.Args = append(out.Args, whole(s, k))
+	}
+	return out
 }
 
 // isVariable says in another way what a variable is.

@@ -69,7 +69,7 @@ func names(params []api.Param) []string {
 
 // dot returns the type of a field.
 func (b *body) dot(n node) api.Type {
-	t := solution.Apply(b.types.Outer, n.kid(0))
+	t := b.types.Outer(n.kid(0))
 	if t.Name == errorName {
 		n.tree.Kind = api.KBad
 		return named(errorName)
@@ -86,7 +86,31 @@ func (b *body) dot(n node) api.Type {
 	if field >= len(record.Args) {
 		return named(errorName)
 	}
-	return types.Put(record.Args[field], names(record.Params), t.Args)
+	return put(record.Args[field], byName(record.Params, t.Args))
+}
+
+// byName returns the types of parameters, by their names with "$".
+func byName(params []api.Param, l []api.Type) map[string]api.Type {
+	out := map[string]api.Type{}
+	for i := range min(len(params), len(l)) {
+		name := "$" + params[i].Name
+		if _, twice := out[name]; !twice {
+			out[name] = l[i]
+		}
+	}
+	return out
+}
+
+// put is like types.Put, but what it puts in shares its lists with the result: fields of fields can have types that double each time, so that copies would not end.
+func put(t api.Type, l map[string]api.Type) api.Type {
+	if x, ok := l[t.Name]; ok && len(t.Args) == 0 {
+		return x
+	}
+	out := api.Type{Name: t.Name}
+	for _, k := range t.Args {
+		out.Args = append(out.Args, put(k, l))
+	}
+	return out
 }
 
 // closeUses gives each KCall and KNew the types of its parameters; those that are open or too many are a diagnostic, too.

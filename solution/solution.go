@@ -16,6 +16,7 @@ type Solution struct {
 	ahead  map[int]*api.Type // where variables lead that lead to others, as far as this was looked up
 	latest []int             // the variables that got their types by the present equation
 	inside map[int]bool      // the variables within types of the solution, and perhaps some others
+	lists  map[list]bool     // lists of types whose variables are all inside
 	work   []pair            // what has to agree, too; the last pair is the next one
 	agreed map[pair]bool     // what has agreed, or fails later
 }
@@ -24,7 +25,7 @@ type pair struct{ a, b *api.Type }
 
 // New returns the solution of no equations.
 func New() *Solution {
-	return &Solution{types: map[int]*api.Type{}, ahead: map[int]*api.Type{}, inside: map[int]bool{}}
+	return &Solution{types: map[int]*api.Type{}, ahead: map[int]*api.Type{}, inside: map[int]bool{}, lists: map[list]bool{}}
 }
 
 // List returns the type of each variable, up to the greatest number that has one; a zero type for one without.
@@ -41,7 +42,7 @@ func (s *Solution) List() []api.Type {
 	return out
 }
 
-// Add adds an equation, and reports whether its sides agree; if not, the solution stays as it was. The types are kept, and are not to change.
+// Add adds an equation, and reports whether its sides agree; if not, the solution stays as it was. The types are kept, and are not to change; a list can be in many of them, and many times in one, without being gone through each time.
 func (s *Solution) Add(e api.Equation) bool {
 	s.agreed = nil
 	s.work = append(s.work[:0], pair{&e.A, &e.B})
@@ -130,7 +131,11 @@ func (s *Solution) within(p pair) {
 
 // give gives a variable its type, and reports whether it does not occur in it.
 func (s *Solution) give(n int, t *api.Type) bool {
-	if s.occurs(n, t) {
+	eachVariable(t, s.lists, func(m int) bool {
+		s.inside[m] = true
+		return true
+	})
+	if s.inside[n] && s.occurs(n, t) {
 		return false
 	}
 	if isNone(*t) {
@@ -138,21 +143,17 @@ func (s *Solution) give(n int, t *api.Type) bool {
 	}
 	s.types[n] = t
 	s.latest = append(s.latest, n)
-	eachVariable(*t, func(m int) bool {
-		s.inside[m] = true
-		return true
-	})
 	s.agreed = nil // A variable that has agreed with the zero type may have got another one.
 	return true
 }
 
-// occurs reports whether a variable occurs in a type to which the solution is applied. One that is inside no type of the solution needs no look at them.
+// occurs reports whether a variable occurs in a type to which the solution is applied.
 func (s *Solution) occurs(n int, t *api.Type) bool {
-	seen := map[int]bool{}
+	seen, lists := map[int]bool{}, map[list]bool{}
 	left := []*api.Type{t}
 	other := func(m int) bool {
 		next, ok := s.types[m]
-		if ok && s.inside[n] && !seen[m] {
+		if ok && !seen[m] {
 			seen[m] = true
 			left = append(left, next)
 		}
@@ -161,7 +162,7 @@ func (s *Solution) occurs(n int, t *api.Type) bool {
 	for len(left) > 0 {
 		last := len(left) - 1
 		t, left = left[last], left[:last]
-		if !eachVariable(*t, other) {
+		if !eachVariable(t, lists, other) {
 			return true
 		}
 	}

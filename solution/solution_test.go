@@ -148,3 +148,81 @@ func TestIsVariable(t *testing.T) {
 		}
 	}
 }
+
+// double returns a type of 2^(n+1)-1 nodes, in which each list stands twice.
+func double(n int, leaf string) api.Type {
+	t := of(leaf)
+	for range n {
+		t = api.Type{Name: "P", Args: []api.Type{t, t}}
+	}
+	return t
+}
+
+// Types whose lists stand in them many times have solutions like others, also if they could not be written.
+func TestListsThatStandOften(t *testing.T) {
+	for _, n := range []int{0, 1, 5, 60, 2000} {
+		s := solution.New()
+		large := func(leaf string) api.Type { return api.Type{Name: "L", Args: []api.Type{double(n, leaf)}} }
+		for i, c := range []struct {
+			a, b api.Type
+			kept bool
+		}{
+			{v(2), large("?2"), false}, {large("?2"), v(2), false}, {v(2), large("?3"), true}, {v(3), large("?2"), false}, {v(3), api.Type{Name: "L", Args: []api.Type{v(2)}}, false},
+			{large("?4"), large("a"), true}, {large("?4"), large("b"), false}, {large("?4"), large("error"), true}, {large("?5"), large("?3"), true}, {v(6), large("?7"), true}, {v(7), large("?8"), true},
+			{v(8), api.Type{Name: "L", Args: []api.Type{v(6)}}, false}, {v(3), large("a"), true}, {v(5), large("?4"), true}, {v(5), large("b"), false}, {v(2), api.Type{Name: "L", Args: []api.Type{large("c")}}, false},
+		} {
+			if s.Add(api.Equation{A: c.a, B: c.b}) != c.kept {
+				t.Fatalf("%d levels: the equation %d is kept: %t", n, i, !c.kept)
+			}
+		}
+		nodes := 1 << min(n+1, 9)
+		if got := solution.Nodes(s.Outer, v(5)); got != min(nodes, api.MaxWide+1) {
+			t.Errorf("%d levels: ?5 has %d nodes", n, got)
+		}
+		if got := solution.Apply(s.Outer, v(5)); nodes > api.MaxWide && got.Name != "error" || nodes <= api.MaxWide && !types.Same(got, large("a")) {
+			t.Errorf("%d levels: ?5 is %s", n, types.Print(got))
+		}
+		if got := s.Outer(v(8)); got.Name != "?8" {
+			t.Errorf("%d levels: ?8 is %s", n, got.Name)
+		}
+	}
+}
+
+// A list that is the beginning of another one is not that one.
+func TestListsWithOneBeginning(t *testing.T) {
+	l := []api.Type{of("a"), v(0), v(1)}
+	s := solution.New()
+	for i, want := range []bool{true, true, false, true, false} {
+		e := []api.Equation{{A: v(2), B: api.Type{Name: "L", Args: l[:1]}}, {A: v(1), B: api.Type{Name: "P", Args: l[:2]}}, {A: v(1), B: api.Type{Name: "Q", Args: l}}, {A: v(3), B: api.Type{Name: "L", Args: l[1:2]}}, {A: v(0), B: api.Type{Name: "P", Args: l[1:]}}}[i]
+		if s.Add(e) != want {
+			t.Errorf("the equation %d is kept: %t", i, !want)
+		}
+	}
+	s = solution.New()
+	for i, want := range []bool{true, false} {
+		if s.Add(api.Equation{A: v(2 - 2*i), B: api.Type{Name: "L", Args: l[:1+i]}}) != want {
+			t.Errorf("the equation %d is kept: %t", i, !want)
+		}
+	}
+}
+
+// Types of many levels need no more than memory.
+func TestManyLevels(t *testing.T) {
+	const n = 300000
+	deep := func(leaf string) api.Type {
+		t := of(leaf)
+		for range n {
+			t = api.Type{Name: "L", Args: []api.Type{t}}
+		}
+		return t
+	}
+	s := solution.New()
+	for i, c := range []struct {
+		a, b api.Type
+		kept bool
+	}{{v(0), deep("?0"), false}, {v(0), deep("?1"), true}, {v(1), api.Type{Name: "L", Args: []api.Type{v(0)}}, false}, {v(0), deep("a"), true}, {v(1), of("b"), false}, {v(1), of("a"), true}} {
+		if s.Add(api.Equation{A: c.a, B: c.b}) != c.kept {
+			t.Errorf("the equation %d is kept: %t", i, !c.kept)
+		}
+	}
+}

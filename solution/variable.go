@@ -30,14 +30,31 @@ func variable(t api.Type) int {
 // isNone reports whether a type is the zero type: a variable that gets it has none.
 func isNone(t api.Type) bool { return t.Name == "" && len(t.Args) == 0 }
 
-// eachVariable calls a function with the number of each variable in a type, until it returns false, and reports whether it never did.
-func eachVariable(t api.Type, goOn func(number int) bool) bool {
-	if n := variable(t); n >= 0 {
-		return goOn(n)
-	}
-	for _, k := range t.Args {
-		if !eachVariable(k, goOn) {
+// list is where a list of types is: what is in it can be in many types, and many times in one.
+type list struct {
+	first *api.Type
+	count int
+}
+
+// eachVariable calls a function with the number of each variable in a type, until it returns false, and reports whether it never did. It leaves out lists that were seen, and adds those that it sees.
+func eachVariable(t *api.Type, seen map[list]bool, goOn func(number int) bool) bool {
+	left := []*api.Type{t}
+	for len(left) > 0 {
+		last := len(left) - 1
+		t, left = left[last], left[:last]
+		if n := variable(*t); n >= 0 && !goOn(n) {
 			return false
+		}
+		if len(t.Args) == 0 {
+			continue
+		}
+		l := list{&t.Args[0], len(t.Args)}
+		if seen[l] {
+			continue
+		}
+		seen[l] = true
+		for i := range t.Args {
+			left = append(left, &t.Args[i])
 		}
 	}
 	return true
